@@ -1,0 +1,1 @@
+"""Telltrove: a house whose forms change, that shows each client its own version."""

@@ -1,0 +1,121 @@
+"""The hall: the plain meaning of a house."""
+
+from telltrove.checks import is_int
+from telltrove.errors import BadKey, BadValue, LastEpoch, NoVersion, Retired
+from telltrove.forms import is_whole
+from telltrove.letting import is_let
+from telltrove.spreads import extended, spread
+
+LAST_KEY = 23
+
+
+class Trial:
+    """What a with statement holds: behind its block the hall is what it was when the block was entered."""
+
+    def __init__(self, hall):
+        self.hall = hall
+        self.epoch = 0
+        self.papers = {}
+
+    def __enter__(self):
+        # A hall never changes a dict of papers that it has, so to keep it is enough.
+        self.epoch = self.hall.epoch
+        self.papers = self.hall.papers
+        return self.hall
+
+    def __exit__(self, kind, value, trace):
+        hall = self.hall
+        hall.epoch = self.epoch
+        hall.papers = self.papers
+        return False
+
+
+class Hall:
+    """Runs a house: in papers each key with a paper has its state."""
+
+    def __init__(self, house):
+        self.house = house
+        self.epoch = 0
+        self.papers = {}
+
+    @property
+    def state(self):
+        """The epoch and the papers, as a tuple."""
+        papers = self.papers
+        return self.epoch, tuple([(key, papers[key]) for key in sorted(papers)])
+
+    @state.setter
+    def state(self, value):
+        self.resume(value)
+
+    def resume(self, state):
+        """Goes on from a state that a hall of this house had."""
+        epoch, papers = state
+        self.epoch = epoch
+        self.papers = {key: paper for key, paper in papers}
+
+    def put(self, name, key, whole):
+        """A client of the version with this name puts a whole under a key."""
+        self.deal((("put", name, key, whole),))
+
+    def drop(self, name, key):
+        """A client drops what is under a key; tells whether there was a paper."""
+        self._ask(name, key)
+        had = key in self.papers
+        self.deal((("drop", name, key),))
+        return had
+
+    def read(self, name, key):
+        """The whole that a client of the version with this name reads, or None."""
+        version = self._ask(name, key)
+        return self.papers[key][version] if key in self.papers else None
+
+    def deal(self, deeds):
+        """Does deeds in order, all or none."""
+        papers = dict(self.papers)
+        for deed in deeds:
+            version = self._ask(deed[1], deed[2])
+            if deed[0] == "put":
+                self._ask_let(version, deed[3])
+                papers[deed[2]] = spread(self.house, self.epoch, papers.get(deed[2]), version, deed[3])
+            elif deed[2] in papers:
+                del papers[deed[2]]
+        self.papers = papers
+
+    def _ask(self, name, key):
+        """The number of the living version with this name; raises the error of a drop."""
+        version = self.house.number_of(name)
+        if version >= self.house.present(self.epoch):
+            raise NoVersion(name)
+        if version not in self.house.living(self.epoch):
+            raise Retired(name)
+        if not is_int(key, 0, LAST_KEY):
+            raise BadKey(key)
+        return version
+
+    def _ask_let(self, version, whole):
+        form = self.house.forms[version]
+        if not is_whole(form, whole) or not is_let(form, whole):
+            raise BadValue(self.house.names[version])
+
+    def present_keys(self):
+        """The keys with papers, ascending."""
+        return tuple(sorted(self.papers))
+
+    def go_on(self):
+        """Goes on to the next epoch."""
+        if self.epoch + 1 == len(self.house.events):
+            raise LastEpoch()
+        epoch = self.epoch + 1
+        self.papers = {key: extended(self.house, epoch, paper) for key, paper in self.papers.items()}
+        self.epoch = epoch
+
+    def trial(self):
+        """For a with statement: holds the hall, and gives it its state back behind the block."""
+        return Trial(self)
+
+    def tried(self, deeds):
+        """What the state would be behind a deal; the hall stays as it is."""
+        with self.trial() as held:
+            held.deal(deeds)
+            return held.state

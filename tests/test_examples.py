@@ -1,0 +1,75 @@
+"""The document's examples that use what is there, answer for answer."""
+
+import unittest
+
+LINE = (
+    "open a { n : num 0 .. 2 ; } add b from a { m : num 0 .. 1 ; step n to m by clip ; } "
+    "add c from b { k : num 0 .. 2 ; step m to k by clip ; } retire c ;"
+)
+
+
+class Examples(unittest.TestCase):
+
+    def same(self, told, answer):
+        self.assertEqual(repr(told), answer)
+
+    def test_kinds_and_forms(self):
+        from telltrove.kinds import rank_of, size_of, value_at
+        self.same(size_of(("row", ("num", 0, 1), 2)), "7")
+        self.same(rank_of(("row", ("num", 0, 1), 2), (1,)), "4")
+        self.same(value_at(("rec", (("a", ("num", 0, 2)), ("b", ("pick", ("no", "yes"))))), 3), "(1, 'yes')")
+        from telltrove.forms import leaves_of
+        self.same(leaves_of(("form", (("home", ("rec", (("no", ("num", 1, 9)), ("up", ("opt", ("num", 0, 1)))))),
+                                      ("x", ("num", 0, 0))), ())),
+                  "(('home.no', ('num', 1, 9)), ('home.up', ('opt', ('num', 0, 1))), ('x', ('num', 0, 0)))")
+
+    def test_letting(self):
+        from telltrove.letting import least_let, let_many
+        form = ("form", (("p", ("num", 0, 2)), ("q", ("num", 0, 2))), (("not", ("upto", "p", "q", 0)),))
+        self.same(least_let(form), "(1, 0)")
+        self.same(let_many(form), "3")
+
+    def test_reading_and_writing(self):
+        from telltrove.errors import BadText
+        from telltrove.reading import read_house
+        self.same(read_house("open a { n : num 0 .. 2 ; rule not n = 1 ; } retire a ;"),
+                  "(('open', 'a', ('form', (('n', ('num', 0, 2)),), (('not', ('is', 'n', 1)),))), ('retire', 'a'))")
+        with self.assertRaises(BadText) as caught:
+            read_house("open a { n : num 0 2 ; }")
+        self.same(vars(caught.exception), "{'at': 7}")
+        from telltrove.writing import write_formula
+        self.same(write_formula(("or", ("has", "p"), ("or", ("most", "q", -2), ("tag", "r", "x")))),
+                  "'has p or ( q <= -2 or r tag x )'")
+
+    def test_leading(self):
+        from telltrove.leading import led
+        self.same(led(("clip",), ("num", 0, 2), ("num", 0, 5), 2, 4), "4")
+        self.same(led(("clip",), ("num", 0, 2), ("num", 0, 5), 1, 4), "1")
+        self.same(led(("each", ("same",)), ("row", ("num", 0, 5), 2), ("row", ("num", 0, 5), 4), (3, 1), (3, 2, 5)), "(3, 1, 5)")
+        self.same(led(("some", ("same",), 0), ("num", 0, 3), ("opt", ("num", 0, 3)), 0, ()), "()")
+
+    def test_steady(self):
+        from telltrove.steady import lost_pair, unsteady
+        self.same(lost_pair(("clip",), ("num", 0, 3), ("num", 0, 1)), "(1, 2)")
+        self.same(unsteady(("clip",), ("num", 0, 1), ("num", 0, 2)), "(2, 0, 1)")
+
+    def test_houses_and_halls(self):
+        from telltrove.errors import BadEvent
+        from telltrove.hall import Hall
+        from telltrove.houses import House
+        from telltrove.reading import read_house
+        from telltrove.spreads import spread
+        with self.assertRaises(BadEvent) as caught:
+            House(read_house("open a { n : num 0 .. 2 ; } retire a ;"))
+        self.same(vars(caught.exception), "{'at': 1, 'reason': 'last'}")
+        house = House(read_house(LINE))
+        self.same(spread(house, 2, ((2,), (1,), (1,)), 2, (2,)), "((2,), (1,), (2,))")
+        hall = Hall(house)
+        hall.put("a", 5, (2,))
+        hall.go_on()
+        hall.put("b", 5, (1,))
+        self.same(hall.read("a", 5), "(2,)")
+
+
+if __name__ == "__main__":
+    unittest.main()

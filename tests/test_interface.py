@@ -1,0 +1,105 @@
+"""What the interface lists is there, as it is written, in the file under which it is listed."""
+
+import importlib
+import inspect
+import unittest
+
+from telltrove import errors
+from telltrove.hall import Hall
+from telltrove.houses import House
+from telltrove.reading import read_house
+
+FUNCTIONS = {
+    "kinds": ("is_kind(kind)", "is_value(kind, value)", "size_of(kind)", "rank_of(kind, value)", "value_at(kind, rank)"),
+    "forms": ("is_form(form)", "is_whole(form, value)", "leaves_of(form)", "flat_of(form, whole)", "whole_of(form, flat)"),
+    "formulas": ("is_formula(leaves, formula)", "paths_of(formula)", "holds(formula, paths, part)"),
+    "letting": ("groups_of(form)", "is_let(form, whole)", "let_parts(form, paths)", "least_let(form)", "let_many(form)",
+                "unmet(form, formula)"),
+    "tokens": ("tokens_of(text)",),
+    "reading": ("read_house(text)",),
+    "writing": ("write_house(events)", "write_kind(kind)", "write_formula(formula)", "write_way(way)", "write_value(value)"),
+    "ways": ("fits(way, left, right)", "mirror(way)"),
+    "leading": ("related(way, left, right, a, b)", "led(way, left, right, a, b=None)"),
+    "steady": ("unsteady(way, left, right)", "lost_pair(way, left, right)"),
+    "changes": ("side_kind(form, paths)", "mirrored(change)", "led_flat(left, right, change, flat, old=None)",
+                "related_flats(left, right, change, flat, other)"),
+    "spreads": ("spread(house, epoch, state, version, whole)", "extended(house, epoch, state)", "in_tune(house, epoch, state)",
+                "forbidden(house, epoch, state)"),
+}
+METHODS = {
+    ("houses", "House"): ("__init__(self, events)", "living(self, epoch)", "present(self, epoch)", "number_of(self, name)"),
+    ("hall", "Hall"): ("__init__(self, house)", "put(self, name, key, whole)", "drop(self, name, key)", "read(self, name, key)",
+                       "deal(self, deeds)", "present_keys(self)", "go_on(self)", "resume(self, state)", "trial(self)",
+                       "tried(self, deeds)"),
+}
+# Each error, the one directly above it, and its attributes.
+ERRORS = {
+    "TroveError": ("ValueError", ()), "BadText": ("TroveError", ("at",)), "BadEvent": ("TroveError", ("at", "reason")),
+    "TooLarge": ("TroveError", ("part",)), "Refused": ("TroveError", ("verdict",)), "DeedError": ("TroveError", ()),
+    "LastEpoch": ("TroveError", ()), "BadBytes": ("TroveError", ("at",)), "NoIndex": ("TroveError", ("path",)),
+    "Cut": ("TroveError", ()), "NoVersion": ("DeedError", ("name",)), "Retired": ("DeedError", ("name",)),
+    "BadKey": ("DeedError", ("key",)), "BadValue": ("DeedError", ("name",)),
+}
+
+
+class Interface(unittest.TestCase):
+
+    def test_functions(self):
+        for module, told in FUNCTIONS.items():
+            held = importlib.import_module("telltrove." + module)
+            for line in told:
+                with self.subTest(module=module, line=line):
+                    function = getattr(held, line.partition("(")[0])
+                    self.assertTrue(inspect.isfunction(function))
+                    self.assertEqual(function.__name__ + str(inspect.signature(function)), line)
+                    self.assertEqual(function.__module__, "telltrove." + module)
+
+    def test_methods(self):
+        for (module, name), told in METHODS.items():
+            held = getattr(importlib.import_module("telltrove." + module), name)
+            self.assertEqual(held.__module__, "telltrove." + module)
+            for line in told:
+                with self.subTest(name=name, line=line):
+                    method = vars(held)[line.partition("(")[0]]
+                    self.assertEqual(method.__name__ + str(inspect.signature(method)), line)
+        self.assertIsInstance(vars(Hall)["state"], property)
+        self.assertIsNotNone(vars(Hall)["state"].fset)
+
+    def test_attributes(self):
+        house = House(read_house("open a { n : num 0 .. 1 ; }"))
+        for name in ("events", "names", "parents", "forms", "changes"):
+            self.assertIn(name, vars(house))
+        self.assertIn("epoch", vars(Hall(house)))
+
+
+class Errors(unittest.TestCase):
+
+    def test_what_stands_under_what(self):
+        for name, (above, _) in ERRORS.items():
+            with self.subTest(name=name):
+                held = getattr(errors, name)
+                self.assertEqual(held.__module__, "telltrove.errors")
+                self.assertEqual([base.__name__ for base in held.__bases__], [above])
+                self.assertTrue(issubclass(held, ValueError))
+        self.assertIs(errors.TroveError.__bases__[0], ValueError)
+
+    def test_attributes(self):
+        for name, (_, attributes) in ERRORS.items():
+            held = getattr(errors, name)
+            for values in ((1, "x"), ("p", 2), ((), True)):
+                with self.subTest(name=name, values=values):
+                    given = values[:len(attributes)]
+                    made = held(*given)
+                    self.assertEqual([repr(getattr(made, attribute)) for attribute in attributes], [repr(value) for value in given])
+                    made = held(**dict(zip(attributes, given)))
+                    self.assertEqual([repr(getattr(made, attribute)) for attribute in attributes], [repr(value) for value in given])
+                    with self.assertRaises(held):
+                        raise made
+                    str(made)
+            if attributes:
+                with self.assertRaises(TypeError):
+                    held()
+
+
+if __name__ == "__main__":
+    unittest.main()
