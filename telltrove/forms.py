@@ -11,7 +11,7 @@ MOST_RULES = 8
 
 def is_form(form):
     """Tells whether a form is right."""
-    if len(form) != 3 or form[0] != "form" or len(form[2]) > MOST_RULES:
+    if form[:1] != ("form",) or len(form[2]) > MOST_RULES:
         return False
     names = [name for name, _ in form[1]]
     if not are_base_names(names, 1, MOST_FIELDS) or not differ(names):

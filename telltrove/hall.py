@@ -60,8 +60,7 @@ class Hall:
 
     def drop(self, name, key):
         """A client drops what is under a key; tells whether there was a paper."""
-        self._ask(name, key)
-        had = key in self.papers
+        had = self.read(name, key) is not None
         self.deal((("drop", name, key),))
         return had
 

@@ -1,7 +1,7 @@
 """Houses: rows of events, and what versions they have."""
 
 from telltrove.changes import side_kind
-from telltrove.checks import differ, is_base_name
+from telltrove.checks import is_base_name
 from telltrove.errors import BadEvent, NoVersion
 from telltrove.forms import is_form, leaves_of
 from telltrove.ways import fits
@@ -108,4 +108,4 @@ def _is_step_told(lefts, rights):
 
 def _is_each_leaf(form, paths):
     """Tells whether the paths are those of the form's leaves, each once."""
-    return differ(paths) and sorted(paths) == sorted([path for path, _ in leaves_of(form)])
+    return sorted(paths) == sorted([path for path, _ in leaves_of(form)])

@@ -22,7 +22,7 @@ def _is_right(kind, depth):
 
 
 def _is_right_num(kind, _):
-    return is_int(kind[1], -1000, 1000) and is_int(kind[2], -1000, 1000) and kind[1] <= kind[2]
+    return is_int(kind[1], -1000, 1000) and is_int(kind[2], kind[1], 1000)
 
 
 def _is_right_pick(kind, _):
@@ -67,7 +67,7 @@ def is_value(kind, value):
     if word == "num":
         return is_int(value, kind[1], kind[2])
     if word == "pick":
-        return isinstance(value, str) and value in kind[1]
+        return value in kind[1]
     if not isinstance(value, tuple):
         return False
     if word == "opt":
@@ -149,12 +149,9 @@ def _rank_of_row(kind, row):
 
 
 def _rank_of_arm(arms, value):
-    rank = 0
-    for tag, inner in arms:
-        if tag == value[0]:
-            return rank + rank_of(inner, value[1])
-        rank += size_of(inner)
-    return rank
+    place = [tag for tag, _ in arms].index(value[0])
+    ahead = sum([size_of(inner) for _, inner in arms[:place]])
+    return ahead + rank_of(arms[place][1], value[1])
 
 
 def value_at(kind, rank):
@@ -187,12 +184,11 @@ def _row_at(kind, rank):
 
 
 def _arm_at(arms, rank):
-    for tag, inner in arms:
-        size = size_of(inner)
-        if rank < size:
-            return tag, value_at(inner, rank)
-        rank -= size
-    return ()
+    place = 0
+    while rank >= size_of(arms[place][1]):
+        rank -= size_of(arms[place][1])
+        place += 1
+    return arms[place][0], value_at(arms[place][1], rank)
 
 
 def values_of(kind):

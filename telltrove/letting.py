@@ -64,7 +64,6 @@ def _least_with(form, paths, part):
 
 def let_many(form):
     """The number of let wholes of a form."""
-    _ask_small_groups(form)
     many = 1
     for group in groups_of(form):
         many = many * len(let_parts(form, group))

@@ -3,9 +3,9 @@
 The functions with names in _tokens tell lists of tokens; the blanks between them come last.
 """
 
-# The word that binds the least has the lowest number; formulas with other words bind more than all of these.
-BINDING = {"or": 0, "and": 1, "not": 2}
-BOTTOM = 3
+# The word that binds the least has the lowest number; formulas with other words bind more than both.
+BINDING = {"or": 0, "and": 1}
+CLOSE = 2
 
 
 def write_house(events):
@@ -90,7 +90,7 @@ def _listed(items):
 def _formula_tokens(formula, least):
     """The tokens of a formula, in parentheses if it binds less than the place where it stands asks for."""
     word = formula[0]
-    binding = BINDING.get(word, BOTTOM)
+    binding = BINDING.get(word, CLOSE)
     if binding < least:
         return ["(", *_formula_tokens(formula, 0), ")"]
     if word == "not":

@@ -46,6 +46,7 @@ CHANGE = ((("n",), ("n",), ("same",)), (("o", "h.y"), ("h.y", "o"), ("same",)), 
 HOUSE = House(read_house(
     "open a { n : num 0 .. 2 ; } add b from a { m : num 0 .. 1 ; rule not m = 1 ; step n to m by clip ; } "
     "add c from a { k : num 0 .. 4 ; step n to k by clip ; } retire b ;"))
+ATTRIBUTES = ("events", "names", "parents", "forms", "changes")
 STATES = (((2,), (1,), (4,)), ((1,), (1,), (1,)), ((0,), (0,), (0,)), ((2,), (0,), (3,)))
 
 
@@ -155,7 +156,7 @@ class Repeats(unittest.TestCase):
 
     def test_houses_stay_as_they_are(self):
         house = House(HOUSE.events)
-        before = copy.deepcopy(vars(house))
+        before = copy.deepcopy([getattr(house, name) for name in ATTRIBUTES])
         for state in STATES:
             in_tune(house, 2, state)
             forbidden(house, 3, state)
@@ -171,7 +172,8 @@ class Repeats(unittest.TestCase):
         house.living(2)
         house.present(3)
         house.number_of("b")
-        self.assertEqual(vars(house), before)
+        self.assertEqual([getattr(house, name) for name in ATTRIBUTES], before)
+        self.assertEqual([house.number_of(name) for name in "abc"], [0, 1, 2])
         self.assertEqual([house.living(epoch) for epoch in range(4)], [(0,), (0, 1), (0, 1, 2), (0, 2)])
 
     def test_errors_leave_no_trace(self):
