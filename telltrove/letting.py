@@ -23,32 +23,33 @@ def is_let(form, whole):
 
 def let_parts(form, paths):
     """The let parts of leaves that are made of whole groups, ascending."""
-    _ask_small(form, paths)
+    ask_small(form, paths)
     kinds = dict(leaves_of(form))
     rules = [rule for rule in form[2] if paths_of(rule)[0] in paths]
     parts = tuples_of([kinds[path] for path in paths])
     return tuple([part for part in parts if all([holds(rule, paths, part) for rule in rules])])
 
 
-def _ask_small(form, paths):
+def ask_small(form, paths):
     """Raises TooLarge if there are too many parts to look through."""
     kinds = dict(leaves_of(form))
     if size_of_all([kinds[path] for path in paths]) > MOST_PARTS:
         raise TooLarge("part")
 
 
-def _ask_small_groups(form):
+def ask_small_groups(form):
+    """Raises TooLarge if some group of a form has too many parts."""
     for group in groups_of(form):
-        _ask_small(form, group)
+        ask_small(form, group)
 
 
 def least_let(form):
     """The least let whole of a form, None if there is none."""
-    _ask_small_groups(form)
-    return _least_with(form, (), ())
+    ask_small_groups(form)
+    return least_with(form, (), ())
 
 
-def _least_with(form, paths, part):
+def least_with(form, paths, part):
     """The least let whole with this let part of whole groups; None if some other group has no let part."""
     values = dict(zip(paths, part))
     for group in groups_of(form):
@@ -72,11 +73,11 @@ def let_many(form):
 
 def unmet(form, formula):
     """The least let whole of which a formula is false, None if the formula follows from the form."""
-    _ask_small_groups(form)
+    ask_small_groups(form)
     mentioned = paths_of(formula)
     groups = [group for group in groups_of(form) if any([path in mentioned for path in group])]
     paths = [path for path, _ in leaves_of(form) if any([path in group for group in groups])]
     for part in let_parts(form, paths):
         if not holds(formula, paths, part):
-            return _least_with(form, paths, part)
+            return least_with(form, paths, part)
     return None

@@ -5,37 +5,42 @@ from telltrove.forms import flat_of, whole_of
 from telltrove.letting import is_let
 
 
+def outward(parents, many, version):
+    """The pairs of neighbours from which and to which is led outward from one of so many versions, in order."""
+    pairs = []
+    number = version
+    while parents[number] is not None:
+        pairs.append((number, parents[number]))
+        number = parents[number]
+    known = [version] + [end for _, end in pairs]
+    # Parents have lower numbers, so each parent comes before its children are led from it.
+    for child in range(many):
+        if child not in known:
+            pairs.append((parents[child], child))
+    return tuple(pairs)
+
+
+def change_between(house, start, end):
+    """The change by which a version's neighbour is led from the version."""
+    return house.changes[end] if house.parents[end] == start else mirrored(house.changes[start])
+
+
 def spread(house, epoch, state, version, whole):
     """The state in which a version has a whole, and every other one what is led to it over a state."""
     olds = (None,) * house.present(epoch) if state is None else state
-    wholes = {version: whole}
-    number = version
-    while house.parents[number] is not None:
-        parent = house.parents[number]
-        wholes[parent] = _led_up(house, number, wholes[number], olds[parent])
-        number = parent
-    # Parents have lower numbers, so each parent has its new whole before its children are led from it.
-    for child in range(house.present(epoch)):
-        if child not in wholes:
-            wholes[child] = _led_down(house, child, wholes[house.parents[child]], olds[child])
-    return tuple([wholes[child] for child in range(house.present(epoch))])
+    wholes = list(olds)
+    wholes[version] = whole
+    for start, end in outward(house.parents, house.present(epoch), version):
+        wholes[end] = _led_whole(house, start, end, wholes[start], olds[end])
+    return tuple(wholes)
 
 
-def _led_down(house, child, whole, old):
-    """The whole of a version that is led from its parent's whole."""
-    left = house.forms[house.parents[child]]
-    return _led_whole(left, house.forms[child], house.changes[child], whole, old)
-
-
-def _led_up(house, child, whole, old):
-    """The whole of a version's parent that is led from the version's whole."""
-    right = house.forms[house.parents[child]]
-    return _led_whole(house.forms[child], right, mirrored(house.changes[child]), whole, old)
-
-
-def _led_whole(left, right, change, whole, old):
+def _led_whole(house, start, end, whole, old):
+    """The whole that is led from a version's whole to its neighbour."""
+    left = house.forms[start]
+    right = house.forms[end]
     before = None if old is None else flat_of(right, old)
-    return whole_of(right, led_flat(left, right, change, flat_of(left, whole), before))
+    return whole_of(right, led_flat(left, right, change_between(house, start, end), flat_of(left, whole), before))
 
 
 def extended(house, epoch, state):
@@ -43,7 +48,8 @@ def extended(house, epoch, state):
     if state is None or house.present(epoch) == house.present(epoch - 1):
         return state
     added = house.present(epoch) - 1
-    return (*state, _led_down(house, added, state[house.parents[added]], None))
+    parent = house.parents[added]
+    return (*state, _led_whole(house, parent, added, state[parent], None))
 
 
 def in_tune(house, epoch, state):

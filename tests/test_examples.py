@@ -70,6 +70,42 @@ class Examples(unittest.TestCase):
         hall.put("b", 5, (1,))
         self.same(hall.read("a", 5), "(2,)")
 
+    def test_strands_and_what_is_reached(self):
+        from telltrove.houses import House
+        from telltrove.reach import reached
+        from telltrove.reading import read_house
+        from telltrove.strands import strands_of
+        house = House(read_house(LINE))
+        self.same(strands_of(house, 1), "((('n',), ('m',)),)")
+        self.same(reached(house, 1, strands_of(house, 1)[0]),
+                  "((((0,), (0,)), ((0, 0, (0,)),)), (((1,), (1,)), ((0, 0, (1,)),)), (((2,), (1,)), ((0, 0, (2,)),)))")
+
+    def test_verdicts_and_claims(self):
+        from telltrove.claims import claimed
+        from telltrove.houses import House
+        from telltrove.reading import read_house
+        from telltrove.verdicts import verdict
+        self.same(verdict(House(read_house("open a { n : num 0 .. 2 ; } add b from a { m : num 0 .. 2 ; rule not m = 1 ; step n to m by same ; }"))),
+                  "('breaks', 1, 0, ((0, 0, (1,)),), 1)")
+        self.same(claimed(House(read_house(LINE)), 2, ("upto", "a:n", "c:k", 0)), "('breaks', ((0, 0, (2,)),))")
+
+    def test_codes(self):
+        from telltrove.books import book_of
+        from telltrove.classes import classes_of
+        from telltrove.forgets import forgotten
+        from telltrove.houses import House
+        from telltrove.reading import read_house
+        from telltrove.recodes import recode
+        from telltrove.strands import strands_of
+        house = House(read_house(LINE))
+        strand = strands_of(house, 3)[0]
+        self.same(classes_of(house, 3, strand), "((((0,), (0,), (0,)), 0), (((1,), (1,), (1,)), 1), (((1,), (1,), (2,)), 1), "
+                  "(((2,), (1,), (1,)), 2), (((2,), (1,), (2,)), 2))")
+        self.same(book_of(house, 3, strand), "('book', ((0, (0,)), (0, (1,)), (0, (2,)), (1, (0,)), (1, (1,))), (0, 1, 2, 0, 1), "
+                  "(((0,), (0,)), ((1,), (1,)), ((2,), (1,))), ((0, 1, 2, 0, 1), (0, 1, 2, 0, 1), (0, 1, 2, 0, 2)))")
+        self.same(forgotten(house, 3), "((0, 1, 2),)")
+        self.same(recode(house, 3, strand), "(((0,), 0), ((1,), 1), ((2,), 1), ((3,), 2), ((4,), 2))")
+
 
 if __name__ == "__main__":
     unittest.main()

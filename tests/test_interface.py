@@ -8,6 +8,7 @@ from telltrove import errors
 from telltrove.hall import Hall
 from telltrove.houses import House
 from telltrove.reading import read_house
+from telltrove.tables import Tables
 
 FUNCTIONS = {
     "kinds": ("is_kind(kind)", "is_value(kind, value)", "size_of(kind)", "rank_of(kind, value)", "value_at(kind, rank)"),
@@ -25,12 +26,31 @@ FUNCTIONS = {
                 "related_flats(left, right, change, flat, other)"),
     "spreads": ("spread(house, epoch, state, version, whole)", "extended(house, epoch, state)", "in_tune(house, epoch, state)",
                 "forbidden(house, epoch, state)"),
+    "strands": ("strands_of(house, epoch)", "bundle_of(house, epoch, nodes)"),
+    "parts": ("part_of(house, bundle, version, whole)", "part_state(house, bundle, state)", "let_parts_of(house, bundle, version)",
+              "joined(house, epoch, version, parts)"),
+    "bundles": ("spread_part(house, bundle, state, version, part)", "extended_part(house, epoch, bundle, state)"),
+    "rows": ("deeds_of(house, epoch, bundle)", "played(house, epoch, bundle, row)", "whole_row(house, bundle, row)"),
+    "reach": ("reached(house, epoch, bundle)",),
+    "verdicts": ("verdict(house)",),
+    "letpapers": ("let_paper(house)", "judge_let(house, paper)"),
+    "claims": ("claimed(house, epoch, formula)", "judge_claim(house, epoch, formula, paper)"),
+    "classes": ("classes_of(house, epoch, bundle)",),
+    "books": ("book_of(house, epoch, bundle)", "code_behind(book, code, deeds)"),
+    "partings": ("parting(book, c, d)",),
+    "codepapers": ("code_paper(house, epoch, bundle)", "judge_codes(house, epoch, bundle, paper)"),
+    "recodes": ("recode(house, epoch, bundle)",),
+    "forgets": ("forgotten(house, epoch)", "hidden(house, epoch, bundle)"),
 }
 METHODS = {
     ("houses", "House"): ("__init__(self, events)", "living(self, epoch)", "present(self, epoch)", "number_of(self, name)"),
     ("hall", "Hall"): ("__init__(self, house)", "put(self, name, key, whole)", "drop(self, name, key)", "read(self, name, key)",
                        "deal(self, deeds)", "present_keys(self)", "go_on(self)", "resume(self, state)", "trial(self)",
                        "tried(self, deeds)"),
+    ("tables", "Tables"): ("__init__(self, house)", "book(self, epoch, number)", "many(self, epoch)", "codes(self, epoch, state)",
+                           "whole(self, epoch, codes, version)", "started(self, epoch, version, whole)",
+                           "moved(self, epoch, codes, version, whole)", "lifted(self, low, high, codes)",
+                           "parted(self, epoch, codes, others)"),
 }
 # Each error, the one directly above it, and its attributes.
 ERRORS = {
@@ -70,6 +90,7 @@ class Interface(unittest.TestCase):
         for name in ("events", "names", "parents", "forms", "changes"):
             self.assertTrue(hasattr(house, name))
         self.assertTrue(hasattr(Hall(house), "epoch"))
+        self.assertIs(Tables(house).house, house)
 
 
 class Errors(unittest.TestCase):
