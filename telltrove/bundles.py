@@ -15,8 +15,7 @@ class Spreader:
         self.changes = {}
         for pairs in self.orders:
             for start, end in pairs:
-                change = change_between(house, start, end)
-                self.changes[start, end] = _steps_in(change, bundle[start], bundle[end])
+                self.changes[start, end] = _steps_to(change_between(house, start, end), bundle[end])
         self.leds = {}
 
     def spread(self, before, version, part):
@@ -42,13 +41,9 @@ class Spreader:
         return self.leds[key]
 
 
-def _steps_in(change, lefts, rights):
-    """The steps of a change that are in a bundle; all paths of a step are in it or none."""
-    steps = []
-    for step in change:
-        if any([path in lefts for path in step[0]]) or any([path in rights for path in step[1]]):
-            steps.append(step)
-    return tuple(steps)
+def _steps_to(change, paths):
+    """The steps of a change that lead to some of the paths; others have nothing to do in their bundle."""
+    return tuple([step for step in change if any([path in paths for path in step[1]])])
 
 
 def spread_part(house, bundle, state, version, part):

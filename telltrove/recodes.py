@@ -17,7 +17,7 @@ def recode_with(walks, epoch, bundle):
     house = walks.house
     laters = codes_by_states(walks, epoch, bundle)
     elder = bundle_then(house, epoch - 1, bundle)
-    strands = [strand for _, strand in strands_within(house, epoch - 1, elder)]
+    strands = [strand for _, strand in strands_within(house, epoch - 1, bundle)]
     tables = [codes_by_states(walks, epoch - 1, strand) for strand in strands]
     codes = {}
     for parts in walks.walk(epoch - 1, elder).states:

@@ -20,7 +20,7 @@ def bundle_of(house, epoch, nodes):
 
 
 def strands_within(house, epoch, bundle):
-    """The strands that make up a bundle of the epoch: pairs of the number of each and the strand."""
+    """The strands of an epoch that are in a bundle of it or of a later one: pairs of their numbers and themselves."""
     return tuple([(number, strand) for number, strand in enumerate(strands_of(house, epoch)) if _meet(strand, bundle)])
 
 

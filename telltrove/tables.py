@@ -1,7 +1,6 @@
 """Tables: all books and recodes of a house."""
 
 from telltrove.books import book_in
-from telltrove.bundles import bundle_then
 from telltrove.classes import codes_in
 from telltrove.errors import Refused
 from telltrove.partings import parting
@@ -97,8 +96,7 @@ class Tables:
         if epoch not in self.lifts:
             lifts = []
             for sheet in self._sheets_of(epoch):
-                elder = bundle_then(self.house, epoch - 1, sheet.strand)
-                numbers = [number for number, _ in strands_within(self.house, epoch - 1, elder)]
+                numbers = [number for number, _ in strands_within(self.house, epoch - 1, sheet.strand)]
                 lifts.append((numbers, dict(recode_with(self.walks, epoch, sheet.strand))))
             self.lifts[epoch] = lifts
         return self.lifts[epoch]

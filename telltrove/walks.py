@@ -109,17 +109,12 @@ def _explored(spreader, deeds, starts, firsts):
         for row, reached in level:
             rows[reached] = row
         fresh = {}
-        _ask_few(rows, fresh)
         for row, reached in level:
             behind[reached] = [spreader.spread(reached, version, part) for _, version, part in deeds]
             for deed, after in zip(deeds, behind[reached]):
                 if after not in rows and after not in fresh:
                     fresh[after] = (*row, deed)
-            _ask_few(rows, fresh)
+            if len(rows) + len(fresh) > MOST_STATES:
+                raise TooLarge("bundle")
         many += 1
     return rows, behind
-
-
-def _ask_few(rows, fresh):
-    if len(rows) + len(fresh) > MOST_STATES:
-        raise TooLarge("bundle")

@@ -174,7 +174,7 @@ class Judge(unittest.TestCase):
             deep = (deep,)
         for epoch in range(4):
             many = LINE.present(epoch)
-            for bad in ((), ((0,),) * (many - 1), ((0,),) * (many + 1), ((),) * many, ((0, 0),) * many, ((-1,),) * many, (("x",),) * many,
+            for bad in (None, (), ((0,),) * (many - 1), ((0,),) * (many + 1), ((),) * many, ((0, 0),) * many, ((-1,),) * many, (("x",),) * many,
                         (((),),) * many, ((deep,),) * many, ((3,),) + ((0,),) * (many - 1)):
                 told = paper[:epoch] + (paper[epoch] + (bad,),) + paper[epoch + 1:]
                 self.assertIs(judge_claim(LINE, 3, self.CLAIM, told), False)

@@ -40,12 +40,10 @@ class Forgotten(unittest.TestCase):
         self.assertEqual(forgotten(house, 4), ())
 
     def test_the_least_pair(self):
-        house = house_of("open a { n : num 0 .. 5 ; } add b from a { m : num 0 .. 2 ; step n to m by table [ 0 , 1 , 2 , 2 , 1 , 1 ] [ 0 , 1 , 2 ] ; } "
-                         "retire a ;")
-        self.assertEqual(forgotten(house, 2), ((0, 1, 4),))
-        house = house_of("open a { n : num 0 .. 5 ; } add b from a { m : num 0 .. 2 ; step n to m by table [ 0 , 1 , 2 , 2 , 0 , 0 ] [ 0 , 1 , 2 ] ; } "
-                         "retire a ;")
-        self.assertEqual(forgotten(house, 2), ((0, 0, 4),))
+        text = ("open a { n : num 0 .. 5 ; } "
+                "add b from a { m : num 0 .. 2 ; step n to m by table [ 0 , 1 , 2 , 2 , %s ] [ 0 , 1 , 2 ] ; } retire a ;")
+        self.assertEqual(forgotten(house_of(text % "1 , 1"), 2), ((0, 1, 4),))
+        self.assertEqual(forgotten(house_of(text % "0 , 0"), 2), ((0, 0, 4),))
 
     def test_nothing_is_forgotten(self):
         house = house_of("open a { n : num 0 .. 2 ; } add b from a { m : num 0 .. 2 ; step n to m by rank ; } "

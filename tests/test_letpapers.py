@@ -138,8 +138,8 @@ class Judge(unittest.TestCase):
         more = paper[0][1] + (((0,), (2,)),)
         # The state is not in tune; each deed leads from it to one that is there.
         self.assertIs(judge_let(house, with_states(paper, 0, 1, more)), True)
-        every = tuple(((n,), (m,)) for n in range(3) for m in range(3))
-        self.assertIs(judge_let(house, with_states(paper, 0, 1, every)), True)
+        all_nine = tuple(((n,), (m,)) for n in range(3) for m in range(3))
+        self.assertIs(judge_let(house, with_states(paper, 0, 1, all_nine)), True)
         keeps = house_of("open a { n : num 0 .. 1 ; } add b from a { m : num 0 .. 3 ; rule m <= 2 ; step n to m by apart 0 0 ; } retire b ; ")
         paper = let_paper(keeps)
         # Over the state with 3 the deeds of a leave 3 there, so all of them have to be there; b would mind while it lives.
@@ -158,7 +158,7 @@ class Judge(unittest.TestCase):
         for strand, told in enumerate(paper):
             for epoch, states in enumerate(told):
                 for bad in ((), states[0][:-1], states[0] + ((),), states[0] + states[0][-1:], (states[0][0] + (0,),) + states[0][1:],
-                            states[0][:-1] + (states[0][-1] + (1,),), (((),) * 9)):
+                            states[0][:-1] + (states[0][-1] + (1,),), ((),) * 9, None):
                     self.assertIs(judge_let(PAIR, with_states(paper, strand, epoch, states + (bad,))), False)
 
     def test_values_that_are_none(self):

@@ -71,6 +71,16 @@ class ByHand(unittest.TestCase):
         self.assertEqual(told[((0,), (1,), (0,))], ((1, 1, (1,)),))
         self.assertEqual(told[((1,), (2,), (1,))], ((0, 0, (1,)), (2, 2, (1,))))
 
+    def test_a_state_of_the_epoch_ahead_that_comes_with_fewer_deeds_now(self):
+        """b lets no put of 1 and 1, so two deeds make it; c lets it, and makes the same with one."""
+        rule = "rule n = 0 or m = 0 ; "
+        house = house_of("open a { n : num 0 .. 1 ; m : num 0 .. 1 ; " + rule + "} "
+                         "add b from a { n : num 0 .. 1 ; m : num 0 .. 1 ; " + rule + "step n to n by same ; step m to m by apart 0 0 ; } "
+                         "add c from b { n : num 0 .. 1 ; m : num 0 .. 1 ; step n to n by same ; step m to m by same ; }")
+        both = ("n", "m")
+        self.assertEqual(dict(reached(house, 1, (both, both)))[((1, 0), (1, 1))], ((1, 1, (0, 1)), (1, 0, (1, 0))))
+        self.assertEqual(dict(reached(house, 2, (both, both, both)))[((1, 0), (1, 1), (1, 1))], ((2, 2, (1, 1)),))
+
 
 class Compared(unittest.TestCase):
 

@@ -26,8 +26,8 @@ from telltrove.strands import bundle_of, strands_of
 from telltrove.tables import Tables
 from telltrove.verdicts import verdict
 
-LARGE = house_of("open a { n : num 0 .. 60 ; z : num 0 .. 1 ; } add b from a { m : num 0 .. 400 ; step n to m by clip ; step z to none by apart 0 [ ] ; } "
-                 "retire b ;")
+LARGE = house_of("open a { n : num 0 .. 60 ; z : num 0 .. 1 ; } "
+                 "add b from a { m : num 0 .. 400 ; step n to m by clip ; step z to none by apart 0 [ ] ; } retire b ;")
 BROKEN = house_of("open a { n : num 0 .. 2 ; } add b from a { m : num 0 .. 2 ; rule not m = 1 ; step n to m by same ; } retire a ;")
 EMPTY = house_of("open a { n : num 0 .. 2 ; rule not n same n ; }")
 # Two houses with the same names and leaves, but other ways and rules.

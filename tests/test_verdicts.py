@@ -176,7 +176,8 @@ class Compared(unittest.TestCase):
     def test_a_search_over_rows(self):
         seen = {}
         for told in (dict(many=80, rules=(0, 0, 0, 1)), dict(many=120, first=1000, rules=(0, 1, 2), least_lets=False),
-                     dict(many=30, first=3000, events=7), dict(many=60, first=5000, fields=3, events=4, rules=(0, 1, 1)), dict(many=30, first=6000, fields=3, events=5)):
+                     dict(many=30, first=3000, events=7), dict(many=60, first=5000, fields=3, events=4, rules=(0, 1, 1)),
+                     dict(many=30, first=6000, fields=3, events=5)):
             for house in some_houses(**told):
                 own = verdict_by_search(house)
                 self.assertEqual(verdict(house), own)
@@ -232,7 +233,8 @@ class WhatItMeans(unittest.TestCase):
         self.assertGreater(tried, 1000)
 
     def test_after_let_all_short_rows(self):
-        house = house_of("open a { n : num 0 .. 2 ; rule not n = 1 ; } add b from a { m : num 0 .. 1 ; step n to m by table [ 0 , 0 , 1 ] [ 0 , 2 ] ; } "
+        house = house_of("open a { n : num 0 .. 2 ; rule not n = 1 ; } "
+                         "add b from a { m : num 0 .. 1 ; step n to m by table [ 0 , 0 , 1 ] [ 0 , 2 ] ; } "
                          "add c from b { k : num 0 .. 3 ; rule not k = 3 ; step m to k by clip ; } retire b ;")
         self.assertEqual(verdict(house), ("let",))
         deeds = [(at, version, whole) for at in range(4) for version in house.living(at) for whole in let_wholes(house.forms[version])]
