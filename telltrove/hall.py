@@ -1,12 +1,8 @@
 """The hall: the plain meaning of a house."""
 
-from telltrove.checks import is_int
-from telltrove.errors import BadKey, BadValue, LastEpoch, NoVersion, Retired
-from telltrove.forms import is_whole
-from telltrove.letting import is_let
+from telltrove.deeds import ask_deed, ask_key
+from telltrove.errors import LastEpoch
 from telltrove.spreads import extended, spread
-
-LAST_KEY = 23
 
 
 class Trial:
@@ -66,36 +62,19 @@ class Hall:
 
     def read(self, name, key):
         """The whole that a client of the version with this name reads, or None."""
-        version = self._ask(name, key)
+        version = ask_key(self.house, self.epoch, name, key)
         return self.papers[key][version] if key in self.papers else None
 
     def deal(self, deeds):
         """Does deeds in order, all or none."""
         papers = dict(self.papers)
         for deed in deeds:
-            version = self._ask(deed[1], deed[2])
+            version = ask_deed(self.house, self.epoch, deed)
             if deed[0] == "put":
-                self._ask_let(version, deed[3])
                 papers[deed[2]] = spread(self.house, self.epoch, papers.get(deed[2]), version, deed[3])
             elif deed[2] in papers:
                 del papers[deed[2]]
         self.papers = papers
-
-    def _ask(self, name, key):
-        """The number of the living version with this name; raises the error of a drop."""
-        version = self.house.number_of(name)
-        if version >= self.house.present(self.epoch):
-            raise NoVersion(name)
-        if version not in self.house.living(self.epoch):
-            raise Retired(name)
-        if not is_int(key, 0, LAST_KEY):
-            raise BadKey(key)
-        return version
-
-    def _ask_let(self, version, whole):
-        form = self.house.forms[version]
-        if not is_whole(form, whole) or not is_let(form, whole):
-            raise BadValue(self.house.names[version])
 
     def present_keys(self):
         """The keys with papers, ascending."""

@@ -39,6 +39,10 @@ class Tables:
         """The book of a strand."""
         return self._sheets_of(epoch)[number].written
 
+    def strands(self, epoch):
+        """The strands of an epoch."""
+        return tuple([sheet.strand for sheet in self._sheets_of(epoch)])
+
     def many(self, epoch):
         """The numbers of codes of the strands."""
         return tuple([len(sheet.written[3]) for sheet in self._sheets_of(epoch)])
@@ -52,7 +56,7 @@ class Tables:
         place = self.house.living(epoch).index(version)
         sheets = self._sheets_of(epoch)
         parts = [sheet.written[3][code][place] for sheet, code in zip(sheets, codes)]
-        return joined_in(self.house, [sheet.strand for sheet in sheets], version, parts)
+        return joined_in(self.house, self.strands(epoch), version, parts)
 
     def started(self, epoch, version, whole):
         """The codes behind a put over no paper."""

@@ -43,7 +43,7 @@ class Walks:
 
     def __init__(self, house):
         self.house = house
-        self.found = {}
+        self.known = {}
 
     def walk(self, epoch, bundle):
         """The walk of a bundle of an epoch; raises TooLarge."""
@@ -59,10 +59,10 @@ class Walks:
 
     def _first_walk(self, bundle):
         """The walk of a bundle in the epoch that opened or added its last version."""
-        if bundle not in self.found:
+        if bundle not in self.known:
             elder = self._first_walk(bundle[:-1]) if len(bundle) > 1 else None
-            self.found[bundle] = _walk_on(self.house, bundle, elder)
-        return self.found[bundle]
+            self.known[bundle] = _walk_on(self.house, bundle, elder)
+        return self.known[bundle]
 
 
 def ask_small_bundle(house, bundle):

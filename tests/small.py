@@ -30,6 +30,14 @@ HIDING = house_of(
     "open a { n : num 0 .. 1 ; } add b from a { m : num 0 .. 3 ; step n to m by table [ 1 , 3 ] [ 0 , 1 , 0 , 1 ] ; } "
     "add c from b { k : num 0 .. 1 ; step m to k by table [ 0 , 0 , 0 , 1 ] [ 0 , 3 ] ; } retire b ;")
 
+# Several strands; o and h . s come and go, and c joins what was apart.
+PAIR = house_of(
+    "open a { n : num 0 .. 2 ; o : opt num 0 .. 1 ; e : rec { } ; h : rec { s : pick { x , y } ; } ; } "
+    "add b from a { p : opt num 0 .. 1 ; n : num 0 .. 1 ; z : num 0 .. 1 ; step n to n by clip ; step o to p by same ; "
+    "step h . s to none by apart x [ ] ; step none to z by apart [ ] 1 ; } retire a ; "
+    "add c from b { n : num 0 .. 1 ; q : row 1 of num 0 .. 1 ; step n , z to n by apart [ 0 , 0 ] 1 ; step p to q by apart [ ] [ 1 ] ; } "
+    "retire b ;")
+
 
 def values_of(kind):
     return [value_at(kind, rank) for rank in range(size_of(kind))]
@@ -423,3 +431,20 @@ def let_wholes(form):
     paths = [path for path, _ in leaves_of(form)]
     flats = itertools.product(*[values_of(kind) for _, kind in leaves_of(form)])
     return [whole_of(form, flat) for flat in flats if all(holds(rule, paths, flat) for rule in form[2])]
+
+
+def told_apart(house, epoch, one, two):
+    """Whether some row of whole deeds of living versions shows a living version a difference."""
+    living = house.living(epoch)
+    deeds = [(version, whole) for version in living for whole in let_wholes(house.forms[version])]
+    pairs = [(one, two)]
+    seen = set(pairs)
+    for here, there in pairs:
+        if any(here[version] != there[version] for version in living):
+            return True
+        for version, whole in deeds:
+            pair = (spread(house, epoch, here, version, whole), spread(house, epoch, there, version, whole))
+            if pair[0] != pair[1] and pair not in seen:
+                seen.add(pair)
+                pairs.append(pair)
+    return False

@@ -106,6 +106,32 @@ class Examples(unittest.TestCase):
         self.same(forgotten(house, 3), "((0, 1, 2),)")
         self.same(recode(house, 3, strand), "(((0,), 0), ((1,), 1), ((2,), 1), ((3,), 2), ((4,), 2))")
 
+    def test_bytes_and_streams(self):
+        from telltrove.houses import House
+        from telltrove.reading import read_house
+        from telltrove.streams import Feed
+        from telltrove.tags import tags_of
+        from telltrove.wirejudge import wire_unlike
+        from telltrove.wires import bytes_of, read_wire
+        house = House(read_house(LINE))
+        self.same(tags_of(house), "((1,), (2,), (3,))")
+        self.same(bytes_of(("num", 0, 299), 258), "(1, 2)")
+        self.same(read_wire(house, 1, (1, 1, 2)), "((0,), ((1, (2,)),))")
+        self.same(wire_unlike(house, 0, 1), "(1,)")
+        feed = Feed()
+        self.same(feed.hear((0, 2, 7)), "()")
+        self.same(feed.hear((8, 0)), "((7, 8),)")
+
+    def test_the_store(self):
+        from telltrove.disk import Disk
+        from telltrove.houses import House
+        from telltrove.reading import read_house
+        from telltrove.store import Store
+        from telltrove.tables import Tables
+        store = Store(Tables(House(read_house(LINE))), Disk())
+        store.put("a", 5, (2,))
+        self.same(store.disk.blocks[:3], "((0, 0), (0, 0, 0, 0, 0), (0, 0, 3, 0, 0))")
+
 
 if __name__ == "__main__":
     unittest.main()

@@ -5,9 +5,11 @@ import inspect
 import unittest
 
 from telltrove import errors
+from telltrove.disk import Disk
 from telltrove.hall import Hall
 from telltrove.houses import House
 from telltrove.reading import read_house
+from telltrove.store import Store
 from telltrove.tables import Tables
 
 FUNCTIONS = {
@@ -41,6 +43,12 @@ FUNCTIONS = {
     "codepapers": ("code_paper(house, epoch, bundle)", "judge_codes(house, epoch, bundle, paper)"),
     "recodes": ("recode(house, epoch, bundle)",),
     "forgets": ("forgotten(house, epoch)", "hidden(house, epoch, bundle)"),
+    "tells": ("told_by(house, epoch, version, paths, other)",),
+    "tags": ("tags_of(house)",),
+    "wires": ("bytes_of(kind, value)", "wire_of(house, version, whole, rest=())", "read_wire(house, version, data)"),
+    "wirejudge": ("wire_unlike(house, writer, reader)", "wire_unsafe(house, writer, reader)", "wire_lost(house, writer, reader)"),
+    "streams": ("framed(data)",),
+    "pages": ("paper_bytes(tables, epoch)", "page_of(tables, epoch, papers)", "papers_of(tables, block)"),
 }
 METHODS = {
     ("houses", "House"): ("__init__(self, events)", "living(self, epoch)", "present(self, epoch)", "number_of(self, name)"),
@@ -51,6 +59,11 @@ METHODS = {
                            "whole(self, epoch, codes, version)", "started(self, epoch, version, whole)",
                            "moved(self, epoch, codes, version, whole)", "lifted(self, low, high, codes)",
                            "parted(self, epoch, codes, others)"),
+    ("streams", "Feed"): ("__init__(self)", "hear(self, piece)", "held(self)"),
+    ("disk", "Disk"): ("__init__(self, blocks=(), room=None)", "write(self, number, block)"),
+    ("store", "Store"): ("__init__(self, tables, disk)", "put(self, name, key, whole)", "drop(self, name, key)", "read(self, name, key)",
+                         "present_keys(self)", "go_on(self)", "deal(self, deeds, session=None)", "batch(self, many=1)",
+                         "session(self, client)", "paper(self, key)", "at_rest(self)"),
 }
 # Each error, the one directly above it, and its attributes.
 ERRORS = {
@@ -84,13 +97,18 @@ class Interface(unittest.TestCase):
                     self.assertEqual(method.__name__ + str(inspect.signature(method)), line)
         self.assertIsInstance(vars(Hall)["state"], property)
         self.assertIsNotNone(vars(Hall)["state"].fset)
+        self.assertIsInstance(vars(Disk)["blocks"], property)
 
     def test_attributes(self):
         house = House(read_house("open a { n : num 0 .. 1 ; }"))
         for name in ("events", "names", "parents", "forms", "changes"):
             self.assertTrue(hasattr(house, name))
         self.assertTrue(hasattr(Hall(house), "epoch"))
-        self.assertIs(Tables(house).house, house)
+        tables = Tables(house)
+        self.assertIs(tables.house, house)
+        disk = Disk()
+        store = Store(tables, disk)
+        self.assertEqual((store.epoch, store.tables, store.disk), (0, tables, disk))
 
 
 class Errors(unittest.TestCase):

@@ -4,8 +4,8 @@ import itertools
 import random
 import unittest
 
-from small import (HIDING, LINE, Search, house_of, let_wholes, parts_in, some_houses, some_whole_row, state_behind, strands_by_links,
-                   table_houses)
+from small import (HIDING, LINE, PAIR, Search, house_of, let_wholes, parts_in, some_houses, some_whole_row, state_behind,
+                   strands_by_links, table_houses, told_apart)
 
 from telltrove.books import book_of
 from telltrove.classes import classes_of
@@ -15,13 +15,6 @@ from telltrove.recodes import recode
 from telltrove.spreads import extended, spread
 from telltrove.tables import Tables
 from telltrove.verdicts import verdict
-
-PAIR = house_of(
-    "open a { n : num 0 .. 2 ; o : opt num 0 .. 1 ; e : rec { } ; h : rec { s : pick { x , y } ; } ; } "
-    "add b from a { p : opt num 0 .. 1 ; n : num 0 .. 1 ; z : num 0 .. 1 ; step n to n by clip ; step o to p by same ; "
-    "step h . s to none by apart x [ ] ; step none to z by apart [ ] 1 ; } retire a ; "
-    "add c from b { n : num 0 .. 1 ; q : row 1 of num 0 .. 1 ; step n , z to n by apart [ 0 , 0 ] 1 ; step p to q by apart [ ] [ 1 ] ; } "
-    "retire b ;")
 
 
 def let_houses():
@@ -248,23 +241,6 @@ class Compared(unittest.TestCase):
                     one, two = spread(house, last, one, version, part), spread(house, last, two, version, part)
                 self.assertNotEqual(search.view(one), search.view(two))
         self.assertGreater(rows, 5)
-
-
-def told_apart(house, epoch, one, two):
-    """Whether some row of whole deeds of living versions shows a living version a difference."""
-    living = house.living(epoch)
-    deeds = [(version, whole) for version in living for whole in let_wholes(house.forms[version])]
-    pairs = [(one, two)]
-    seen = set(pairs)
-    for here, there in pairs:
-        if any(here[version] != there[version] for version in living):
-            return True
-        for version, whole in deeds:
-            pair = (spread(house, epoch, here, version, whole), spread(house, epoch, there, version, whole))
-            if pair[0] != pair[1] and pair not in seen:
-                seen.add(pair)
-                pairs.append(pair)
-    return False
 
 
 def all_states(house, epoch, most):
