@@ -3,7 +3,7 @@
 import functools
 import random
 
-from small import HIDING, LINE, PAIR, house_of, let_wholes, some_houses, table_houses
+from small import HIDING, LINE, PAIR, house_of, let_wholes, some_houses, table_houses, values_of
 
 from telltrove.disk import Disk
 from telltrove.errors import Cut, TroveError
@@ -23,6 +23,14 @@ RULED = house_of(
     "[ [ 0 , 0 ] , [ 0 , 1 ] , [ 0 , 2 ] , [ 1 , 1 ] , [ 1 , 2 ] , [ 2 , 2 ] ] ; step o to p by same ; } "
     "retire a ; add d from c { q : num 0 .. 1 ; w : row 2 of num 0 .. 1 ; step k to none by apart 0 [ ] ; step p to q by must 0 same ; "
     "step none to w by apart [ ] [ 1 ] ; } retire c ;")
+# Leaves of all kinds that formulas ask about, each in a strand of its own but for n and p of a.
+WORDS = house_of(
+    "open a { n : num 0 .. 2 ; p : num 0 .. 1 ; o : opt num 0 .. 1 ; r : row 2 of num 0 .. 0 ; t : one { x : num 0 .. 1 ; y : num 5 .. 5 ; } ; } "
+    "add b from a { k : num 0 .. 1 ; o : opt num 0 .. 1 ; u : opt num 0 .. 1 ; r : row 3 of num 0 .. 0 ; t : one { x : num 0 .. 1 ; z : num 5 .. 5 ; } ; "
+    "step n , p to k by apart [ 0 , 0 ] 1 ; step o to o by same ; step none to u by apart [ ] [ 1 ] ; step r to r by each same ; "
+    "step t to t by arms { x to x by same ; y to z by same ; } ; } "
+    "retire a ; add c from b { k : num -1 .. 1 ; l : num -1 .. 1 ; o : num 0 .. 1 ; step k to k by clip ; step none to l by apart [ ] 0 ; "
+    "step o , u to o by apart [ [ ] , [ ] ] 1 ; step r to none by apart [ ] [ ] ; step t to none by apart [ x , 1 ] [ ] ; }")
 NOTHING = house_of("open a { e : rec { } ; } add b from a { e : rec { } ; f : rec { } ; } retire a ;")
 EMPTY = ((),) * 32
 
@@ -69,6 +77,38 @@ def some_deed(rng, house, epoch, keys=range(24)):
 
 def some_deal(rng, house, epoch, keys=range(24), most=8):
     return tuple(some_deed(rng, house, epoch, keys) for _ in range(rng.randint(0, most)))
+
+
+def some_bottom(rng, leaves):
+    """A right formula without formulas inside."""
+    path, kind = rng.choice(leaves)
+    choices = [("is", path, rng.choice(values_of(kind))), ("same", path, rng.choice([other for other, own in leaves if own == kind]))]
+    if kind[0] == "num":
+        other = rng.choice([other for other, own in leaves if own[0] == "num"])
+        choices += [("most", path, rng.randint(kind[1] - 1, kind[2])), ("upto", path, other, rng.randint(-2, 2))]
+    if kind[0] == "opt":
+        choices.append(("has", path))
+    if kind[0] == "one":
+        choices.append(("tag", path, rng.choice(kind[1])[0]))
+    if kind[0] == "row":
+        choices.append(("long", path, rng.randint(-1, kind[2] + 1)))
+    return rng.choice(choices)
+
+
+def some_formula(rng, leaves, depth=4):
+    """A right formula of at most so many formulas deep, with at most 8 without formulas inside."""
+    choice = rng.random()
+    if depth == 1 or choice < 0.3:
+        return some_bottom(rng, leaves)
+    if choice < 0.5:
+        return "not", some_formula(rng, leaves, depth - 1)
+    return rng.choice(("and", "or")), some_formula(rng, leaves, depth - 1), some_formula(rng, leaves, depth - 1)
+
+
+def words_in(formula):
+    """The words of a formula and of those in it."""
+    inner = [part for part in formula[1:] if formula[0] in ("not", "and", "or")]
+    return [formula[0]] + [word for part in inner for word in words_in(part)]
 
 
 def answer_of(function, *arguments):

@@ -132,6 +132,24 @@ class Examples(unittest.TestCase):
         store.put("a", 5, (2,))
         self.same(store.disk.blocks[:3], "((0, 0), (0, 0, 0, 0, 0), (0, 0, 3, 0, 0))")
 
+    def test_asks_clients_and_leaders(self):
+        from telltrove.asks import ask
+        from telltrove.clients import Client
+        from telltrove.disk import Disk
+        from telltrove.houses import House
+        from telltrove.leaders import Leader
+        from telltrove.reading import read_house
+        from telltrove.store import Store
+        from telltrove.tables import Tables
+        house = House(read_house(LINE))
+        store = Store(Tables(house), Disk())
+        store.put("a", 5, (2,))
+        store.go_on()
+        self.same(ask(store, "b", ("values", "m", ("most", "m", 1))), "(1,)")
+        self.same(Client(house, 1, "a").ask_put(5, (2,)), "(1, 0, 1, 0, 2, 5, 1, 1, 2)")
+        leader = Leader(Store(Tables(house), Disk()))
+        self.same(leader.deal((("put", "a", 5, (2,)), ("drop", "a", 5))), "((0, 5, 0, 1, 0, 0),)")
+
 
 if __name__ == "__main__":
     unittest.main()

@@ -6,6 +6,7 @@ import unittest
 
 from telltrove import errors
 from telltrove.disk import Disk
+from telltrove.followers import Follower
 from telltrove.hall import Hall
 from telltrove.houses import House
 from telltrove.reading import read_house
@@ -49,6 +50,9 @@ FUNCTIONS = {
     "wirejudge": ("wire_unlike(house, writer, reader)", "wire_unsafe(house, writer, reader)", "wire_lost(house, writer, reader)"),
     "streams": ("framed(data)",),
     "pages": ("paper_bytes(tables, epoch)", "page_of(tables, epoch, papers)", "papers_of(tables, block)"),
+    "asks": ("ask(store, name, question)",),
+    "rewrites": ("rewrite(tables, epoch, version, formula)", "true_of(tree, codes)", "judge_rewrite(tables, epoch, version, formula, tree)"),
+    "answers": ("answered(house, epoch, version, formula, other)",),
 }
 METHODS = {
     ("houses", "House"): ("__init__(self, events)", "living(self, epoch)", "present(self, epoch)", "number_of(self, name)"),
@@ -64,6 +68,13 @@ METHODS = {
     ("store", "Store"): ("__init__(self, tables, disk)", "put(self, name, key, whole)", "drop(self, name, key)", "read(self, name, key)",
                          "present_keys(self)", "go_on(self)", "deal(self, deeds, session=None)", "batch(self, many=1)",
                          "session(self, client)", "paper(self, key)", "at_rest(self)"),
+    ("indexes", "Index"): ("__init__(self, store, name, path)", "step(self)", "covered(self)", "found(self, name, path, value)"),
+    ("clients", "Client"): ("__init__(self, house, client, name)", "ask_read(self, key)", "ask_put(self, key, whole)", "ask_drop(self, key)",
+                            "again(self)", "hear(self, answer)"),
+    ("service", "Service"): ("__init__(self, store)", "hear(self, letter)"),
+    ("leaders", "Leader"): ("__init__(self, store)", "deal(self, deeds)", "page_note(self, page)", "stamp(self, page)"),
+    ("followers", "Follower"): ("__init__(self, tables)", "hear(self, note)", "go_on(self)", "read(self, name, key)", "paper(self, key)",
+                                "page(self, number)", "floor(self, page)", "tombstones(self)", "waiting(self)"),
 }
 # Each error, the one directly above it, and its attributes.
 ERRORS = {
@@ -109,6 +120,7 @@ class Interface(unittest.TestCase):
         disk = Disk()
         store = Store(tables, disk)
         self.assertEqual((store.epoch, store.tables, store.disk), (0, tables, disk))
+        self.assertEqual(Follower(tables).epoch, 0)
 
 
 class Errors(unittest.TestCase):

@@ -4,13 +4,15 @@ keeps papers."""
 import random
 import unittest
 
-from kept import NOTHING, RULED, answer_of, lets_of, new_store, some_deal, some_rng, store_houses, tables_of
+from kept import NOTHING, RULED, answer_of, lets_of, new_store, some_deal, some_formula, some_rng, store_houses, tables_of
 from small import HIDING, LINE, PAIR, house_of, let_wholes, some_houses
 
+from telltrove.answers import answered
 from telltrove.disk import Disk
 from telltrove.forms import leaves_of
 from telltrove.houses import House
 from telltrove.pages import page_of, paper_bytes, papers_of
+from telltrove.rewrites import judge_rewrite, rewrite, true_of
 from telltrove.store import Store
 from telltrove.streams import Feed, framed
 from telltrove.tables import Tables
@@ -53,6 +55,22 @@ def questions():
             papers = tuple(rng.choice((None, tuple(rng.randrange(many) for many in tables.many(epoch)))) for _ in range(4))
             block = page_of(tables, epoch, papers)
             asked += [(paper_bytes, tables, epoch), (page_of, tables, epoch, papers), (papers_of, tables, block)]
+            asked += about_formulas(rng, tables, epoch)
+    return asked
+
+
+def about_formulas(rng, tables, epoch):
+    asked = []
+    for version in tables.house.living(epoch):
+        leaves = leaves_of(tables.house.forms[version])
+        for other in tables.house.living(epoch):
+            if leaves:
+                formula = some_formula(rng, leaves, 2)
+                codes = tuple(rng.randrange(many) for many in tables.many(epoch))
+                tree = rewrite(tables, epoch, version, formula)
+                asked += [(answered, tables.house, epoch, version, formula, other), (rewrite, tables, epoch, version, formula),
+                          (true_of, tree, codes), (judge_rewrite, tables, epoch, version, formula, tree),
+                          (judge_rewrite, tables, epoch, version, formula, ("not", tree)), (judge_rewrite, tables, epoch, version, formula, ("maybe",))]
     return asked
 
 
@@ -96,7 +114,9 @@ class Repeats(unittest.TestCase):
                     judge(inner)
 
         for function, *arguments in questions():
-            if not answer_of(function, *arguments).startswith(("BadBytes", "TooLarge")):
+            if function in (true_of, judge_rewrite):
+                self.assertIs(type(function(*arguments)), bool)
+            elif not answer_of(function, *arguments).startswith(("BadBytes", "TooLarge")):
                 judge(function(*arguments))
 
     def test_objects_of_all_kinds_by_turns(self):
