@@ -1,7 +1,7 @@
-"""What is asked of deeds before they are done."""
+"""What is asked of deeds, and of going on, before they are done."""
 
 from telltrove.checks import is_int
-from telltrove.errors import BadKey, BadValue, NoVersion, Retired
+from telltrove.errors import BadKey, BadValue, LastEpoch, NoVersion, Retired
 from telltrove.forms import is_whole
 from telltrove.letting import is_let
 
@@ -34,3 +34,10 @@ def ask_deed(house, epoch, deed):
         if not is_whole(form, deed[3]) or not is_let(form, deed[3]):
             raise BadValue(deed[1])
     return version
+
+
+def next_epoch(house, epoch):
+    """The epoch behind another one; raises an error if the house has no further event."""
+    if epoch + 1 == len(house.events):
+        raise LastEpoch()
+    return epoch + 1

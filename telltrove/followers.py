@@ -1,7 +1,6 @@
 """Followers: they keep a copy of a leader's store from its notes, however these come."""
 
-from telltrove.deeds import LAST_KEY, ask_key
-from telltrove.errors import LastEpoch
+from telltrove.deeds import LAST_KEY, ask_key, next_epoch
 from telltrove.notes import EPOCH_PLACE, KEY_NOTE, stamp_in
 from telltrove.pages import PAGE_KEYS, PAGES, lifted_paper, page_of, paper_told, papers_later
 
@@ -67,10 +66,9 @@ class Follower:
 
     def go_on(self):
         """Goes on to the next epoch, and hears the notes that waited for it."""
-        if self.epoch + 1 == len(self.tables.house.events):
-            raise LastEpoch()
-        self.papers = [lifted_paper(self.tables, self.epoch, self.epoch + 1, paper) for paper in self.papers]
-        self.epoch += 1
+        epoch = next_epoch(self.tables.house, self.epoch)
+        self.papers = [lifted_paper(self.tables, self.epoch, epoch, paper) for paper in self.papers]
+        self.epoch = epoch
         notes = self.later
         self.later = []
         for note in notes:

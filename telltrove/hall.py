@@ -1,7 +1,6 @@
 """The hall: the plain meaning of a house."""
 
-from telltrove.deeds import ask_deed, ask_key
-from telltrove.errors import LastEpoch
+from telltrove.deeds import ask_deed, ask_key, next_epoch
 from telltrove.spreads import extended, spread
 
 
@@ -82,9 +81,7 @@ class Hall:
 
     def go_on(self):
         """Goes on to the next epoch."""
-        if self.epoch + 1 == len(self.house.events):
-            raise LastEpoch()
-        epoch = self.epoch + 1
+        epoch = next_epoch(self.house, self.epoch)
         self.papers = {key: extended(self.house, epoch, paper) for key, paper in self.papers.items()}
         self.epoch = epoch
 

@@ -1,8 +1,7 @@
 """Stores: papers on a disk, kept as codes, in pages of different epochs."""
 
-from telltrove.deeds import ask_deed, ask_key
+from telltrove.deeds import ask_deed, ask_key, next_epoch
 from telltrove.disk import BLOCKS
-from telltrove.errors import LastEpoch
 from telltrove.journals import finish, replace_blocks, write_fresh
 from telltrove.pages import PAGE_KEYS, PAGES, page_of, papers_later
 
@@ -99,10 +98,9 @@ class Store:
 
     def go_on(self):
         """Goes on to the next epoch; the pages stay as they are."""
-        if self.epoch + 1 == len(self.tables.house.events):
-            raise LastEpoch()
-        self.disk.write(0, (self.epoch + 1, 0))
-        self.epoch += 1
+        epoch = next_epoch(self.tables.house, self.epoch)
+        self.disk.write(0, (epoch, 0))
+        self.epoch = epoch
 
 
 def _make(tables, disk):

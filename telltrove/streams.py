@@ -32,10 +32,8 @@ class Feed:
         return tuple(told)
 
     def _end_of_data(self, at):
-        """The place behind the data that begins at a place; if its length is not there, some place behind all."""
+        """The place behind the data that begins at a place; it is behind all that was heard if no length is there."""
         begin = at + LENGTH_BYTES
-        if begin > len(self.tail):
-            return begin
         return begin + number_from(self.tail[at:begin])
 
     def held(self):

@@ -135,6 +135,17 @@ class ByHand(unittest.TestCase):
         self.assertEqual(self.follower.tombstones(), ())
         self.assertEqual(self.follower.floor(1), 3)
 
+    def test_tombstones_of_the_first_and_the_last_key(self):
+        for key in (0, 23):
+            self.deal(("put", "a", key, (1,)))
+            drop, = self.deal(("drop", "a", key))
+            self.hear(drop)
+        self.assertEqual(self.follower.tombstones(), (0, 23))
+        self.hear(self.leader.page_note(0))
+        self.assertEqual(self.follower.tombstones(), (23,))
+        self.hear(self.leader.page_note(5))
+        self.assertEqual(self.follower.tombstones(), ())
+
     def test_an_elder_note_of_another_key_is_taken(self):
         one, = self.deal(("put", "a", 4, (1,)))
         two, = self.deal(("put", "a", 5, (2,)))
@@ -235,6 +246,24 @@ class ByHand(unittest.TestCase):
         self.follower.go_on()
         self.assertEqual([self.follower.paper(key) for key in (5, 9)], [(2,), (2,)])
         self.assertEqual(self.follower.page(1), (3, 0, 3, 0, 0))
+
+    def test_high_stamps(self):
+        notes = []
+        for at in range(515):
+            notes += self.deal(("put", "a", 5, (at % 3,)))
+        self.hear(notes[513], notes[256], notes[0], notes[512])
+        self.assertEqual((self.follower.paper(5), self.follower.floor(1)), ((0,), 1))
+        self.hear(self.leader.page_note(1))
+        self.assertEqual((self.follower.paper(5), self.follower.floor(1)), ((514 % 3,), 515))
+        self.hear(*self.deal(("drop", "a", 5)))
+        self.hear(*notes)
+        self.assertEqual((self.follower.paper(5), self.follower.floor(1)), (None, 516))
+
+    def test_high_stamps_one_by_one(self):
+        for at in range(300):
+            self.hear(*self.deal(("put", "a", 8 + at % 4, (at % 3,))))
+            self.assertEqual(self.follower.floor(2), at + 1)
+            self.assertEqual(self.follower.page(2), self.leader.store.disk.blocks[3])
 
     def test_errors(self):
         for epoch in range(3):
